@@ -1,0 +1,1 @@
+"""Keepsapart: books of sayings that some places of a web keep others apart."""

@@ -1,0 +1,1 @@
+"""Tests of keepsapart; they stand beside the package."""

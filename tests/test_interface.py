@@ -1,0 +1,100 @@
+"""Tests that the interface stands where the document lists it: names, arguments, defaults, classes."""
+
+import doctest
+import importlib
+import inspect
+import pathlib
+import unittest
+
+README = pathlib.Path(__file__).resolve().parent.parent / "README.md"
+
+FUNCTIONS = {
+    "places": {
+        "is_place": "(text)",
+        "make_lot": "(names)",
+        "is_lot": "(names)",
+        "check_place": "(place, *, places=None)",
+        "check_lot": "(lot, *, places=None)",
+        "check_places": "(places, *, most=7)",
+        "lot_union": "(first, second)",
+        "lot_common": "(first, second)",
+        "lot_minus": "(first, second)",
+        "sublots": "(lot)",
+        "pairs_of": "(lot)",
+    },
+    "webs": {
+        "no_ties": "(places)",
+        "all_tied": "(places)",
+        "all_webs": "(places)",
+        "web_within": "(small, big)",
+        "induced": "(web, lot)",
+    },
+    "webtext": {
+        "web_text": "(web)",
+        "read_web": "(text)",
+        "web_line": "(web)",
+    },
+}
+CLASSES = {
+    "webs": {
+        "Web": {
+            "__init__": "(self, places, ties=())",
+            "tied": "(self, a, b)",
+            "neighbours": "(self, place)",
+            "with_tie": "(self, a, b)",
+            "without_tie": "(self, a, b)",
+            "with_place": "(self, place, *, tied_to=())",
+            "without_place": "(self, place)",
+            "__eq__": "(self, other)",
+            "__ne__": "(self, other)",
+            "__contains__": "(self, place)",
+            "__iter__": "(self)",
+            "__and__": "(self, other)",
+            "__or__": "(self, other)",
+        },
+    },
+}
+PROPERTIES = {
+    "webs": {"Web": ("places", "ties")},
+}
+
+
+def modules(table):
+    """Each file of the table as a module, with its row."""
+    return [(importlib.import_module("keepsapart." + name), row) for name, row in table.items()]
+
+
+class InterfaceTest(unittest.TestCase):
+
+    def test_functions(self):
+        for module, row in modules(FUNCTIONS):
+            for name, parameters in row.items():
+                function = getattr(module, name)
+                self.assertTrue(inspect.isfunction(function))
+                self.assertEqual(function.__module__, module.__name__)
+                self.assertEqual(str(inspect.signature(function)), parameters, name)
+
+    def test_methods_stand_in_the_class_itself(self):
+        for module, row in modules(CLASSES):
+            for name, methods in row.items():
+                made = getattr(module, name)
+                self.assertEqual(made.__module__, module.__name__)
+                for method, parameters in methods.items():
+                    self.assertEqual(str(inspect.signature(vars(made)[method])), parameters, method)
+
+    def test_properties_stand_in_the_class_itself_and_cannot_be_assigned(self):
+        for module, row in modules(PROPERTIES):
+            for name, properties in row.items():
+                for word in properties:
+                    found = vars(getattr(module, name))[word]
+                    self.assertIsInstance(found, property)
+                    self.assertIsNone(found.fset)
+
+    def test_the_examples_of_the_readme(self):
+        failed, tried = doctest.testfile(str(README), module_relative=False)
+        self.assertEqual(failed, 0)
+        self.assertGreater(tried, 0)
+
+
+if __name__ == "__main__":
+    unittest.main()
