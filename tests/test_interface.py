@@ -34,6 +34,44 @@ FUNCTIONS = {
         "read_web": "(text)",
         "web_line": "(web)",
     },
+    "sayings": {
+        "make_saying": "(left, between, right)",
+        "is_saying": "(places, saying)",
+        "check_saying": "(saying, *, places=None)",
+        "check_told": "(told, *, places=None)",
+        "turned": "(saying)",
+        "fewer": "(saying, place)",
+        "more": "(saying, place)",
+        "places_of": "(saying)",
+        "outside_of": "(places, saying)",
+        "is_full": "(places, saying)",
+        "all_sayings": "(places)",
+        "pair_saying": "(places, a, b)",
+        "load_of": "(places, told)",
+    },
+    "ways": {
+        "reached": "(web, starts, *, missing=())",
+        "lumps_of": "(web, *, missing=())",
+        "shortest_way": "(web, start, goal, *, missing=())",
+        "distance": "(web, start, goal, *, missing=())",
+        "all_ways": "(web, start, goal, *, missing=())",
+        "is_way": "(web, way, start, goal, *, missing=())",
+    },
+    "apart": {
+        "keeps": "(web, saying)",
+        "apart_from": "(web, starts, *, missing=())",
+        "verdict": "(web, saying)",
+        "is_split": "(web, saying, split)",
+        "is_crossing": "(web, saying, way)",
+        "keeps_all": "(web, told)",
+        "first_failing": "(web, told)",
+    },
+    "books": {
+        "full_book": "(places)",
+        "turn_book": "(book)",
+        "book_within": "(small, big)",
+        "first_difference": "(first, second)",
+    },
 }
 CLASSES = {
     "webs": {
@@ -53,9 +91,24 @@ CLASSES = {
             "__or__": "(self, other)",
         },
     },
+    "books": {
+        "Book": {
+            "__init__": "(self, places, sayings=())",
+            "with_saying": "(self, saying)",
+            "without_saying": "(self, saying)",
+            "__eq__": "(self, other)",
+            "__ne__": "(self, other)",
+            "__contains__": "(self, saying)",
+            "__iter__": "(self)",
+            "__and__": "(self, other)",
+            "__or__": "(self, other)",
+            "__sub__": "(self, other)",
+        },
+    },
 }
 PROPERTIES = {
     "webs": {"Web": ("places", "ties")},
+    "books": {"Book": ("places", "sayings", "many")},
 }
 
 
