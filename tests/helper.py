@@ -1,6 +1,7 @@
 """What the tests share."""
 
 import unittest
+from itertools import permutations
 
 from keepsapart.errors import KeepError
 
@@ -14,6 +15,15 @@ NO_PLACES = (
     "", "abcdefg", "abcdefghijkl", "A", "aB", "Z", "a1", "1", "a b", " a", "a ", " ", "a-b", "_", "a.b",
     "{", "`", "~", "@", "[", "ab!",
 )
+
+
+def ways_in(web):
+    """All ways in a web, found by the definition alone, ascending."""
+    ties = set(web.ties) | {(b, a) for a, b in web.ties}
+    return sorted(
+        way for many in range(1, len(web.places) + 1) for way in permutations(web.places, many)
+        if all(step in ties for step in zip(way, way[1:]))
+    )
 
 
 class Case(unittest.TestCase):

@@ -8,21 +8,12 @@ from keepsapart.errors import BadLot, BadPlace, BadSaying, Shared, TooMany, Unkn
 from keepsapart.sayings import all_sayings, turned
 from keepsapart.webs import Web, all_tied, all_webs, no_ties
 from keepsapart.ways import reached
-from tests.helper import FORTY, NO_PLACES, SEVEN, Case
+from tests.helper import FORTY, NO_PLACES, SEVEN, Case, ways_in
 
 FOUR = ("a", "b", "c", "d")
 LINE = Web(FOUR, (("a", "b"), ("b", "c")))
 KEPT = (("a",), ("b",), ("c",))
 CROSSED = (("a",), ("d",), ("c",))
-
-
-def ways_in(web):
-    """All ways in a web, by the definition."""
-    ties = set(web.ties) | {(b, a) for a, b in web.ties}
-    return [
-        way for many in range(1, len(web.places) + 1) for way in permutations(web.places, many)
-        if all(step in ties for step in zip(way, way[1:]))
-    ]
 
 
 def crossings(ways, saying):
@@ -122,6 +113,7 @@ class KeepsTest(Case):
         self.refused(BadPlace("B"), apart_from, LINE, ("a",), missing=("a", "B"))
         self.refused(BadLot(("b", "a")), apart_from, LINE, ("a",), missing=("b", "a"))
         self.refused(Unknown("y"), apart_from, LINE, ("a",), missing=("a", "y"))
+        self.refused(Unknown("y"), apart_from, LINE, (), missing=FOUR + ("y",))
         self.refused(Shared("b"), apart_from, LINE, ("b", "c"), missing=("a", "b", "c"))
 
     def test_the_saying_is_checked_over_the_web(self):

@@ -3,6 +3,7 @@
 import ast
 import builtins
 import pathlib
+import re
 import unittest
 
 PACKAGE = pathlib.Path(__file__).resolve().parent.parent / "keepsapart"
@@ -53,7 +54,7 @@ class LanguageTest(unittest.TestCase):
             self.assertTrue(all(" " <= sign <= "~" or sign == "\n" for sign in text), path.name)
             self.assertLessEqual(text.count("\n"), 399, path.name)
             self.assertLessEqual(max(len(line) for line in text.split("\n")), 120, path.name)
-            self.assertNotIn("_wall ", text)
+            self.assertIsNone(re.search(r"\b_wall\b|_WallAttr", text), path.name)
 
     def test_functions_have_at_most_40_lines(self):
         for place, node in nodes(ast.FunctionDef):

@@ -7,7 +7,7 @@ from keepsapart.errors import BadLot, BadPlace, Shared, Unknown
 from keepsapart.places import sublots
 from keepsapart.webs import Web, all_tied, all_webs
 from keepsapart.ways import all_ways, distance, is_way, lumps_of, reached, shortest_way
-from tests.helper import FORTY, NO_PLACES, SEVEN, Case
+from tests.helper import FORTY, NO_PLACES, SEVEN, Case, ways_in
 
 FOUR = ("a", "b", "c", "d")
 RING = Web(FOUR, [("a", "b"), ("b", "c"), ("c", "d"), ("a", "d")])
@@ -18,15 +18,6 @@ LARGE = Web(
     ("a", "b", "c", "d", "e", "f", "g"),
     [("a", "c"), ("b", "c"), ("b", "d"), ("d", "f"), ("e", "f"), ("a", "e")],
 )
-
-
-def ways_in(web):
-    """All ways in a web, by the definition."""
-    ties = set(web.ties) | {(b, a) for a, b in web.ties}
-    return sorted(
-        way for many in range(1, len(web.places) + 1) for way in permutations(web.places, many)
-        if all(step in ties for step in zip(way, way[1:]))
-    )
 
 
 def some_webs():
@@ -121,6 +112,8 @@ class ReachedTest(Case):
         self.refused(BadPlace("A"), lumps_of, LINE, missing=("x", "a", "A"))
         self.refused(BadLot(("x", "a")), lumps_of, LINE, missing=("x", "a"))
         self.refused(Unknown("x"), lumps_of, LINE, missing=("a", "x", "y"))
+        self.refused(Unknown("x"), lumps_of, LINE, missing=FOUR + ("x",))
+        self.refused(Unknown("x"), lumps_of, Web(()), missing=("x",))
 
 
 class WayTest(Case):
