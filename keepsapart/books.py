@@ -33,12 +33,12 @@ class Book:
     def with_saying(self, saying):
         """A new book with this saying."""
         check_saying(saying, places=self._places)
-        return Book(self._places, sorted(set(self._sayings) | {saying}))
+        return Book(self._places, [held for held in self._sayings if held != saying] + [saying])
 
     def without_saying(self, saying):
         """A new book without this saying."""
         check_saying(saying, places=self._places)
-        return Book(self._places, sorted(set(self._sayings) - {saying}))
+        return Book(self._places, [held for held in self._sayings if held != saying])
 
     def __eq__(self, other):
         return isinstance(other, Book) and self._places == other._places and self._sayings == other._sayings
