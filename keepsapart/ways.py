@@ -82,7 +82,7 @@ def least_ways(web, starts, missing):
                 if neighbour not in ways and neighbour not in missing:
                     ways[neighbour] = ways[place] + (neighbour,)
                     following.append(neighbour)
-        layer = following
+        layer = list(following)
     return ways
 
 

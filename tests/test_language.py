@@ -23,6 +23,7 @@ DOUBLE = (
     "__init__ __eq__ __ne__ __repr__ __str__ __len__ __call__ __iter__ __contains__ __lt__ __le__ __gt__ __ge__"
     " __add__ __sub__ __mul__ __and__ __or__ __xor__"
 ).split()
+MODIFYING = ("append", "clear", "extend", "insert", "pop", "remove", "reverse", "setdefault", "update", "add", "discard")
 BARRED = (ast.AsyncFunctionDef, ast.AsyncFor, ast.AsyncWith, ast.Await, ast.Div, ast.Import)
 BUILTIN_NAMES = dir(builtins)
 
@@ -38,6 +39,47 @@ def nodes(kind):
         (f"{path.name}:{getattr(node, 'lineno', 0)}", node)
         for path, tree in files() for node in ast.walk(tree) if isinstance(node, kind)
     ]
+
+
+def named(node):
+    """The names of a target, or of a value that is a name or a choice between names."""
+    if isinstance(node, ast.IfExp):
+        return named(node.body) | named(node.orelse)
+    if isinstance(node, ast.BoolOp):
+        return set().union(*[named(value) for value in node.values])
+    return {node.id} if isinstance(node, ast.Name) else set()
+
+
+def same_lists(function, name):
+    """All names of a function that may stand for the list that this name stands for."""
+    found = {name}
+    rows = [node for node in ast.walk(function) if isinstance(node, ast.Assign)]
+    groups = [named(row.value) | set().union(*[named(target) for target in row.targets]) for row in rows]
+    while any(group & found and group - found for group in groups):
+        for group in groups:
+            found |= group if group & found else set()
+    return found
+
+
+def walked(loop):
+    """The names of the lists that a loop goes over."""
+    if isinstance(loop.iter, ast.Call) and isinstance(loop.iter.func, ast.Name):
+        if loop.iter.func.id in ("enumerate", "zip", "reversed"):
+            return set().union(*[named(value) for value in loop.iter.args])
+    return named(loop.iter)
+
+
+def modified(loop):
+    """The names whose lists or dicts the rows of a loop modify."""
+    found = set()
+    for node in [node for row in loop.body for node in ast.walk(row)]:
+        if isinstance(node, ast.Call) and isinstance(node.func, ast.Attribute) and node.func.attr in MODIFYING:
+            found |= named(node.func.value)
+        if isinstance(node, ast.Subscript) and not isinstance(node.ctx, ast.Load):
+            found |= named(node.value)
+        if isinstance(node, ast.AugAssign):
+            found |= named(node.target)
+    return found
 
 
 class LanguageTest(unittest.TestCase):
@@ -102,6 +144,12 @@ class LanguageTest(unittest.TestCase):
             self.assertNotEqual(free, [], sorted(waiting))
             for name in free:
                 del waiting[name]
+
+    def test_what_a_loop_walks_is_not_changed_in_it(self):
+        for place, function in nodes(ast.FunctionDef):
+            for loop in [node for node in ast.walk(function) if isinstance(node, ast.For)]:
+                lists = set().union(*[same_lists(function, name) for name in walked(loop)])
+                self.assertEqual(lists & modified(loop), set(), place + " " + function.name)
 
     def test_builtins(self):
         for place, node in nodes(ast.Name):
