@@ -7,7 +7,7 @@ LETTERS = "abcdefghijklmnopqrstuvwxyz"
 
 def is_place(text):
     """True if the raw place is a place."""
-    return 1 <= len(text) <= 6 and all([letter in LETTERS for letter in text])
+    return 1 <= len(text) <= 6 and text.strip(LETTERS) == ""
 
 
 def make_lot(names):
@@ -36,6 +36,11 @@ def check_place(place, *, places=None):
     """Refuse what is not a place, or not a place of the world."""
     if not is_place(place):
         raise BadPlace(place)
+    check_known(place, places)
+
+
+def check_known(place, places):
+    """Refuse a place that is not in the world, if there is a world."""
     # The empty tuple is a world too, so only None stands for no world.
     if places is not None and place not in places:
         raise Unknown(place)
@@ -55,14 +60,19 @@ def check_lot(lot, *, places=None):
     if not ascends(lot):
         raise BadLot(lot)
     for place in lot:
-        check_place(place, places=places)
+        check_known(place, places)
 
 
 def check_places(places, *, most=7):
     """Refuse what is not a lot, or has more places than a world may have."""
     check_lot(places)
-    if len(places) > most:
-        raise TooMany(most, len(places))
+    check_many(places, most)
+
+
+def check_many(items, most):
+    """Refuse more items than the bound allows."""
+    if len(items) > most:
+        raise TooMany(most, len(items))
 
 
 def check_two(a, b, places):

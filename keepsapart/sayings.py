@@ -2,7 +2,7 @@
 
 from keepsapart.errors import BadSaying, Shared, TooMany
 from keepsapart.places import (
-    check_lot, check_place, check_places, check_two, is_lot, lot_minus, lot_union, make_lot,
+    check_lot, check_many, check_place, check_places, check_two, is_lot, lot_minus, lot_union, make_lot,
 )
 
 
@@ -16,9 +16,17 @@ def make_saying(left, between, right):
 def is_saying(places, saying):
     """True if the raw saying is a saying over the world."""
     check_places(places)
-    if not all([is_lot(lot) for lot in saying]):
-        return False
-    return all([place in places for lot in saying for place in lot]) and sides_fit(saying)
+    return has_form(saying) and is_over(places, saying)
+
+
+def is_over(places, saying):
+    """True if all places of the saying are in the world."""
+    return all([place in places for lot in saying for place in lot])
+
+
+def has_form(lots):
+    """True if the three raw lots are a saying, over whatever world."""
+    return all([is_lot(lot) for lot in lots]) and sides_fit(lots)
 
 
 def sides_fit(lots):
@@ -43,9 +51,13 @@ def check_saying(saying, *, places=None):
 
 def check_told(told, *, places=None):
     """Refuse what is not a told list, or not a told list over the world."""
-    if len(told) > 10:
-        raise TooMany(10, len(told))
-    for saying in told:
+    check_items(told, 10, places)
+
+
+def check_items(sayings, most, places):
+    """Refuse more sayings than the bound allows, and what is not a saying over the world, if there is one."""
+    check_many(sayings, most)
+    for saying in sayings:
         check_saying(saying, places=places)
 
 
@@ -70,10 +82,15 @@ def more(saying, place):
     """The saying with the place in its between lot too."""
     check_saying(saying)
     check_place(place)
-    if place in places_of(saying):
-        raise Shared(place)
+    check_outside(place, saying)
     left, between, right = saying
     return (left, lot_union(between, (place,)), right)
+
+
+def check_outside(place, saying):
+    """Refuse a place that is in one of the lots of the saying."""
+    if place in places_of(saying):
+        raise Shared(place)
 
 
 def places_of(saying):
@@ -127,3 +144,10 @@ def load_of(places, told):
     check_places(places)
     check_told(told, places=places)
     return sum([len(outside_of(places, saying)) for saying in told])
+
+
+def check_load(places, told, most):
+    """Refuse a told list with a greater load than the bound allows."""
+    load = load_of(places, told)
+    if load > most:
+        raise TooMany(most, load)

@@ -1,56 +1,18 @@
 """Tests of keepsapart.sayings: points [3] to [9], [15] to [18], rules 2 and 3 of [30], and the interface."""
 
 import unittest
-from itertools import product
 
 from keepsapart.errors import BadLot, BadPlace, BadSaying, Repeated, Shared, TooMany, Unknown
 from keepsapart.sayings import (
     all_sayings, check_saying, check_told, fewer, is_full, is_saying, load_of, make_saying, more, outside_of,
     pair_saying, places_of, turned,
 )
-from tests.helper import FORTY, NO_PLACES, SEVEN, TWELVE, Case
+from tests.helper import (
+    FIVE, FORTY, NO_LOTS, NO_PLACES, NO_SAYINGS, SEVEN, TWELVE, UNKNOWN, Case, triples,
+)
 
-FIVE = ("a", "b", "c", "d", "e")
 SAYING = (("a",), ("b",), ("c",))
 WIDE = (FORTY[:15], FORTY[15:25], FORTY[25:])
-
-# Tuples of three lots that are no sayings: an empty left or right lot, or a place in two lots.
-NO_SAYINGS = (
-    ((), (), ()), ((), (), ("a",)), (("a",), (), ()), ((), ("a",), ()), (("a",), ("b",), ()), ((), ("a",), ("b",)),
-    (("a",), (), ("a",)), (("a",), ("a",), ("b",)), (("a",), ("b",), ("b",)), (("a", "c"), ("b",), ("c", "d")),
-    (("a", "b"), ("b", "c"), ("d",)), (("d",), ("a", "b"), ("b", "c")), (("a",), ("a",), ("a",)),
-)
-
-# What is refused before the form of the three lots matters, with its error; each is no saying over FIVE.
-NO_LOTS = (
-    ((("A",), ("B",), ("C",)), BadPlace("A")),
-    ((("b", "a", "A"), ("B",), ("C",)), BadPlace("A")),
-    ((("b", "a"), ("B",), ("C",)), BadLot(("b", "a"))),
-    ((("a", "a"), ("B",), ("C",)), BadLot(("a", "a"))),
-    (((), ("B",), ("C",)), BadPlace("B")),
-    (((), ("d", "c"), ("C",)), BadLot(("d", "c"))),
-    (((), (), ("b", "a", "C")), BadPlace("C")),
-    (((), (), ("b", "a")), BadLot(("b", "a"))),
-    ((("a",), ("a",), ("a", "a")), BadLot(("a", "a"))),
-)
-UNKNOWN = (
-    ((("x",), ("B",), ("C",)), Unknown("x")),
-    ((("a", "x", "y"), ("c", "b"), ()), Unknown("x")),
-    (((), ("y",), ("b", "a")), Unknown("y")),
-    ((("a",), ("a", "z"), ("C",)), Unknown("z")),
-    ((("a",), ("a",), ("a", "z")), Unknown("z")),
-    (((), (), ("aa",)), Unknown("aa")),
-)
-
-
-def triples(places):
-    """The sayings over a world, by the definition: each place in the left, between or right lot or outside."""
-    found = []
-    for roles in product("xzy-", repeat=len(places)):
-        lots = tuple(tuple(p for p, role in zip(places, roles) if role == word) for word in "xzy")
-        if lots[0] and lots[2]:
-            found.append(lots)
-    return sorted(found)
 
 
 class MakeTest(Case):

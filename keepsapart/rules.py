@@ -1,0 +1,150 @@
+"""The five rules, the uses of them, and the written form of a use."""
+
+from keepsapart.errors import BadRule, BadText, BadUse
+from keepsapart.places import check_places, lot_minus, lot_union
+from keepsapart.sayings import all_sayings, check_saying, fewer, is_saying, more, outside_of, turned
+from keepsapart.saytext import check_one_line, saying_in, saying_text
+
+DIGITS = ("1", "2", "3", "4", "5")
+
+
+def is_use(places, use):
+    """True if the raw use is a use over the world."""
+    check_places(places, most=5)
+    rule, premises, _ = use
+    if rule not in (1, 2, 3, 4, 5) or premises == () or not is_saying(places, premises[0]):
+        return False
+    return use in uses_on(places, premises[0], rule)
+
+
+def is_step(places, use):
+    """True if the raw use is a use over the world by one of the rules 1 to 4."""
+    return use[0] != 5 and is_use(places, use)
+
+
+def check_use(use, *, places=None):
+    """Refuse what is not a shaped use, or not a shaped use over the world."""
+    rule, premises, conclusions = use
+    if rule not in (1, 2, 3, 4, 5):
+        raise BadRule(rule)
+    if len(premises) not in (1, 2) or len(conclusions) not in (1, 2):
+        raise BadUse(use)
+    for saying in premises + conclusions:
+        check_saying(saying, places=places)
+
+
+def check_rules(rules, most):
+    """Refuse the first number that is not from 1 to the greatest rule, or does not ascend."""
+    before = 0
+    for rule in rules:
+        if rule <= before or rule > most:
+            raise BadRule(rule)
+        before = rule
+
+
+def all_uses(places, *, rules=(1, 2, 3, 4, 5)):
+    """All uses over the world by these rules, ascending."""
+    check_places(places, most=5)
+    check_rules(rules, 5)
+    sayings = all_sayings(places)
+    return sorted([use for rule in rules for saying in sayings for use in uses_on(places, saying, rule)])
+
+
+def uses_from(places, saying, *, rules=(1, 2, 3, 4, 5)):
+    """The uses by these rules that have the saying among their premises, ascending."""
+    check_places(places, most=5)
+    check_saying(saying, places=places)
+    return [use for use in all_uses(places, rules=rules) if saying in use[1]]
+
+
+def uses_to(places, saying, *, rules=(1, 2, 3, 4, 5)):
+    """The uses by these rules that have the saying among their conclusions, ascending."""
+    check_places(places, most=5)
+    check_saying(saying, places=places)
+    return [use for use in all_uses(places, rules=rules) if saying in use[2]]
+
+
+def uses_on(places, saying, rule):
+    """The uses over the world by this rule whose first premise is the saying."""
+    _, between, right = saying
+    if rule == 1:
+        return [turn_use(saying)]
+    if rule == 2:
+        return [fewer_use(saying, place) for place in right if len(right) > 1]
+    if rule == 4:
+        return [cross_use(saying, place) for place in between]
+    outside = outside_of(places, saying)
+    if rule == 3:
+        return [more_use(saying, place) for place in outside]
+    return [either_use(saying, place) for place in outside]
+
+
+def turn_use(saying):
+    """The use by rule 1 that turns the saying."""
+    return (1, (saying,), (turned(saying),))
+
+
+def fewer_use(saying, place):
+    """The use by rule 2 that takes the place out of the right lot."""
+    return (2, (saying,), (fewer(saying, place),))
+
+
+def more_use(saying, place):
+    """The use by rule 3 that puts the place into the between lot."""
+    return (3, (saying,), (more(saying, place),))
+
+
+def cross_use(saying, place):
+    """The use by rule 4 that moves the place from the between lot of its first premise to the right lot."""
+    left, between, right = saying
+    rest = lot_minus(between, (place,))
+    other = (left, lot_union(rest, right), (place,))
+    return (4, (saying, other), ((left, rest, lot_union(right, (place,))),))
+
+
+def either_use(saying, place):
+    """The use by rule 5 that parts the place from one of the two sides."""
+    left, between, right = saying
+    return (5, (saying,), ((left, between, (place,)), ((place,), between, right)))
+
+
+def use_text(use):
+    """The written use."""
+    check_use(use)
+    rule, premises, conclusions = use
+    return f"{rule} : {sayings_text(premises)} : {sayings_text(conclusions)}"
+
+
+def sayings_text(sayings):
+    """The written premises or conclusions of a use."""
+    return " ; ".join([saying_text(saying) for saying in sayings])
+
+
+def read_use(text):
+    """The shaped use that is written so."""
+    lines = text.split("\n")
+    use = use_in(lines[0])
+    if use is None:
+        raise BadText(1)
+    check_one_line(lines)
+    return use
+
+
+def use_in(text):
+    """The shaped use that is written so in one line, or None if there is none."""
+    parts = text.split(" : ")
+    if len(parts) != 3 or parts[0] not in DIGITS:
+        return None
+    premises = sayings_in(parts[1])
+    conclusions = sayings_in(parts[2])
+    if premises is None or conclusions is None:
+        return None
+    return (int(parts[0]), premises, conclusions)
+
+
+def sayings_in(text):
+    """The one or two sayings that are written so, or None if they are not."""
+    sayings = tuple([saying_in(part) for part in text.split(" ; ")])
+    if len(sayings) > 2 or any([saying is None for saying in sayings]):
+        return None
+    return sayings
