@@ -2,9 +2,11 @@
 
 import unittest
 from functools import lru_cache
-from itertools import permutations, product
+from itertools import combinations, permutations, product
 
+from keepsapart.derive import derive
 from keepsapart.errors import BadLot, BadPlace, BadRule, BadSaying, KeepError, TooMany, Unknown
+from keepsapart.webs import Web
 
 # Twelve places, more than any world may have, in ascending order.
 TWELVE = ("a", "aa", "b", "c", "d", "e", "f", "g", "h", "i", "j", "zzzzzz")
@@ -17,6 +19,9 @@ NO_PLACES = (
     "", "abcdefg", "abcdefghijkl", "A", "aB", "Z", "a1", "1", "a b", " a", "a ", " ", "a-b", "_", "a.b",
     "{", "`", "~", "@", "[", "ab!",
 )
+
+# Three lots that every check of a saying refuses at its first place.
+BAD = (("A",), (), ())
 
 # Tuples of three lots that are no sayings: an empty left or right lot, or a place in two lots.
 NO_SAYINGS = (
@@ -102,6 +107,11 @@ def kept_uses(places):
     return tuple(sorted(found))
 
 
+@lru_cache
+def use_set(places):
+    return frozenset(kept_uses(places))
+
+
 def ways_in(web):
     """All ways in a web, found by the definition alone, ascending."""
     ties = set(web.ties) | {(b, a) for a, b in web.ties}
@@ -109,6 +119,124 @@ def ways_in(web):
         way for many in range(1, len(web.places) + 1) for way in permutations(web.places, many)
         if all(step in ties for step in zip(way, way[1:]))
     )
+
+
+def load(places, told):
+    """The load of a told list, by the definition."""
+    return sum(len(places) - len(x + z + y) for x, z, y in told)
+
+
+def full_extensions(places, saying):
+    """The extensions of a saying, by the definition, ascending."""
+    x, z, y = saying
+    return [
+        (left, between, right) for left, between, right in triples(places)
+        if between == z and set(x) <= set(left) and set(y) <= set(right) and len(left + z + right) == len(places)
+    ]
+
+
+def some_told(places, most):
+    """Told lists over a world whose load is at most this, the empty one first."""
+    sayings = triples(places)
+    many = len(sayings)
+    found = [[]] + [[saying] for saying in sayings[::many // 30 + 1]]
+    found += [[sayings[k * 7 % many], sayings[(k * 5 + 1) % many]] for k in range(25)]
+    found += [[sayings[k * j % many] for j in (3, 11, 1)] for k in range(25)]
+    found += [[sayings[(k + j * j) % many] for j in range(k % 10 + 1)] for k in range(20)]
+    found += [[sayings[k * 3 % many], sayings[k * 3 % many][::-1]] * 2 for k in range(10)]
+    return [told for told in found if load(places, told) <= most]
+
+
+def lies_within(small, big):
+    """True if each tie of one web is a tie of the other."""
+    return set(small.ties) <= set(big.ties)
+
+
+@lru_cache(maxsize=None)
+def kept_by(places, ties):
+    """The sayings that a web keeps, by the definition."""
+    ways = [(way[0], way[-1], set(way)) for way in ways_in(Web(places, ties))]
+    return frozenset(
+        (x, z, y) for x, z, y in triples(places)
+        if not any(start in x and goal in y and not met & set(z) for start, goal, met in ways)
+    )
+
+
+def web_keeps(web, told):
+    """True if a web of few places keeps a list of sayings, by the definition."""
+    return kept_by(web.places, web.ties) >= set(told)
+
+
+def nodes_of(tree, path=()):
+    """Each leaf and case of a tree in the order of its text, behind its path of 3 for left and 4 for right."""
+    found = [(path, tree)]
+    if tree[0] == "case":
+        found += nodes_of(tree[3], path + (3,)) + nodes_of(tree[4], path + (4,))
+    return found
+
+
+def proves(places, known, goal, tree):
+    """True if a shaped tree is a tree of cases for a goal, by the definition."""
+    uses = use_set(places)
+    held = set(known)
+    for use in tree[1]:
+        if use not in uses or use[0] == 5 or not set(use[1]) <= held:
+            return False
+        held.add(use[2][0])
+    if tree[0] == "leaf":
+        return goal in held
+    _, _, use, left, right = tree
+    if use not in uses or use[0] != 5 or not set(use[1]) <= held:
+        return False
+    first, second = use[2]
+    return proves(places, held | {first}, goal, left) and proves(places, held | {second}, goal, right)
+
+
+# Worlds, told lists and goals that follow from them, but by cases only.
+HARD = (
+    ("abcde", "a | c d | b ; d | a c | e ; d | c | a b ; d e | a | b", "b | | d"),
+    ("abcd", "d | a | c ; d | c | b ; b | a | c", "b | | d"),
+    ("abcde", "c | d | a ; a e | b | c d ; e | d | a", "a | | e"),
+    ("abcde", "b | c d | e ; c | a b | e ; c | d | b", "c | a | e"),
+    ("abcde", "b | e | c ; e | a c d | b ; c | d | e", "b | a | c"),
+    ("abcde", "a | c | e ; a e | d | c ; d | b | c e", "a c | | e"),
+    ("abcde", "a b | c | e ; a c | b | d ; a | b | d e ; a | c | b d", "a | | e"),
+    ("abcde", "a d | c | b ; a | b c | d ; b | d e | a", "a | e | b"),
+    ("abcde", "a | d | c ; e | b d | a c ; a | c | e", "a | b | e"),
+    ("abcde", "e | a d | c ; e | d | a c ; b | c e | d ; a | b e | c", "a | b | c"),
+    ("abcde", "c | d | a e ; a | e | b ; a | c | b e", "a | | b e"),
+    ("abcde", "b c | a | d ; c d | e | b ; c | b | d", "c | | d"),
+    ("abcde", "a | b | d e ; c | d | e ; e | a c | d", "c d | | e"),
+    ("abcde", "b d | e | c ; d | c | b ; a | c d | b", "b | a | d"),
+    ("abcde", "d e | | a ; e | b | c ; b | d | a c e", "a c | | e"),
+    ("abcde", "a b c | d | e ; a | e | c ; e | d | b", "a | b | c"),
+)
+
+
+def saying_of(line):
+    """The saying that a line is the written form of."""
+    return tuple(tuple(part.split()) for part in line.split("|"))
+
+
+@lru_cache(maxsize=None)
+def derived_trees():
+    """Worlds, told lists, goals that follow, and the trees that the program derives for them."""
+    found = [(tuple(world), [saying_of(line) for line in told.split(";")], saying_of(goal)) for world, told, goal in HARD]
+    found += [(places, [saying[::-1] for saying in told[::-1]], goal[::-1]) for places, told, goal in found]
+    places = FIVE[:4]
+    for told in some_told(places, 4)[1::8]:
+        goals = sorted(frozenset.intersection(*[
+            kept_by(places, ties) for ties in all_ties(places) if kept_by(places, ties) >= set(told)
+        ]))
+        found += [(places, told, goal) for goal in goals[::len(goals) // 2 + 1]]
+    return [(places, told, goal, derive(places, told, goal)) for places, told, goal in found]
+
+
+@lru_cache(maxsize=None)
+def all_ties(places):
+    """The ties of all webs over a world."""
+    pairs = [(a, b) for a in places for b in places if a < b]
+    return [tuple(chosen) for many in range(len(pairs) + 1) for chosen in combinations(pairs, many)]
 
 
 class Case(unittest.TestCase):
@@ -133,7 +261,7 @@ class Case(unittest.TestCase):
         kept = list(first)
         first.append("changed")
         first.reverse()
-        self.same_kind(function(*args, **named), kept)
+        self.assertEqual(function(*args, **named), kept)
 
     def checks_world(self, call, most):
         """The call checks its argument as a world with this bound."""
@@ -154,7 +282,7 @@ class Case(unittest.TestCase):
 
     def checks_list(self, call, most=10):
         """The call checks its argument as a list of sayings with this bound, over such a world."""
-        good, bad = (("a",), ("b",), ("c",)), (("A",), (), ())
+        good, bad = (("a",), ("b",), ("c",)), BAD
         self.refused(TooMany(most, most + 1), call, [bad] * (most + 1))
         self.refused(TooMany(most, most + 1), call, (good,) * (most + 1))
         self.refused(TooMany(most, 700), call, [good] * 700)

@@ -119,6 +119,39 @@ FUNCTIONS = {
         "gather_steps": "(places, saying)",
         "steps_to": "(places, known, goal, *, rules=(1, 2, 3, 4))",
     },
+    "greatwebs": {
+        "extensions_of": "(places, saying)",
+        "choices_of": "(places, told)",
+        "web_of_choice": "(places, choice)",
+        "choice_of": "(web, told)",
+        "greatest_webs": "(places, told)",
+        "is_greatest": "(web, told)",
+        "great_above": "(web, told)",
+        "keeping_webs": "(places, told)",
+    },
+    "alike": {
+        "follows": "(places, told, goal)",
+        "counterweb": "(places, told, goal)",
+        "is_counterweb": "(web, told, goal)",
+        "consequences": "(places, told)",
+        "alike": "(places, first, second)",
+        "unlike": "(places, first, second)",
+        "is_unlike": "(places, first, second, paper)",
+        "core_of": "(places, told)",
+    },
+    "trees": {
+        "is_tree": "(places, told, goal, tree)",
+        "tree_size": "(tree)",
+        "tree_branches": "(told, tree)",
+        "turns_of": "(web, tree)",
+        "tree_text": "(tree)",
+        "read_tree": "(text)",
+    },
+    "derive": {
+        "derive": "(places, told, goal)",
+        "answer": "(places, told, goal)",
+        "is_answer": "(places, told, goal, paper)",
+    },
 }
 CLASSES = {
     "webs": {

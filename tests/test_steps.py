@@ -6,7 +6,7 @@ from itertools import product
 from keepsapart.errors import BadLot, BadPlace, BadSaying, Shared, TooMany, Unknown
 from keepsapart.steps import are_steps, gather_steps, grow_steps, is_lean, scatter_steps, steps_to
 from tests.helper import (
-    FIVE, FORTY, NO_LOTS, NO_SAYINGS, SEVEN, UNKNOWN, Case, joined, triples, uses_over,
+    BAD, FIVE, FORTY, NO_LOTS, NO_SAYINGS, SEVEN, UNKNOWN, Case, joined, triples, use_set, uses_over,
 )
 
 TWO = FIVE[:2]
@@ -16,7 +16,6 @@ AB = (("a",), (), ("b",))
 BA = (("b",), (), ("a",))
 TURN = (1, (AB,), (BA,))
 WIDE = (FORTY[:15], FORTY[15:25], FORTY[25:])
-BAD = (("A",), (), ())
 
 
 def pair(places, a, b):
@@ -45,7 +44,7 @@ class Judge(Case):
     def right_answer(self, steps, places, known, goals, rules):
         """The steps are a right answer as point [43] tells, judged by the definitions and by the program."""
         self.assertIs(type(steps), tuple)
-        uses = set(uses_over(places))
+        uses = use_set(places)
         held = set(known)
         for use in steps:
             self.assertIn(use, uses)

@@ -9,7 +9,7 @@ from keepsapart.errors import NotKept, TooMany
 from keepsapart.webof import book_of, both_ways, gap, grow, is_both_ways, is_web_book, pairs_apart, web_of
 from keepsapart.webs import Web, all_tied, all_webs, no_ties
 from tests.helper import (
-    FIVE, FORTY, NO_LOTS, NO_PLACES, NO_SAYINGS, SEVEN, UNKNOWN, Case, joined, triples, uses_over, ways_in,
+    FIVE, FORTY, NO_LOTS, NO_PLACES, NO_SAYINGS, SEVEN, UNKNOWN, Case, joined, kept_by, triples, uses_over,
 )
 
 THREE = FIVE[:3]
@@ -20,15 +20,7 @@ RING = Web(FIVE, [("a", "b"), ("b", "c"), ("c", "d"), ("d", "e"), ("a", "e")])
 def web_books():
     """All webs over up to four places and some over five, each with its book by the definition."""
     webs = [web for many in range(5) for web in all_webs(FIVE[:many])] + [RING, no_ties(FIVE), all_tied(FIVE)]
-    found = []
-    for web in webs:
-        ways = [(way[0], way[-1], set(way)) for way in ways_in(web)]
-        sayings = [
-            (x, z, y) for x, z, y in triples(web.places)
-            if not any(start in x and goal in y and not places & set(z) for start, goal, places in ways)
-        ]
-        found.append((web, Book(web.places, sayings)))
-    return found
+    return [(web, Book(web.places, sorted(kept_by(web.places, web.ties)))) for web in webs]
 
 
 WEB_BOOKS = web_books()
