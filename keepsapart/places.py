@@ -110,6 +110,17 @@ def lot_minus(first, second):
     return tuple(sorted(set(first) - set(second)))
 
 
+def put_in(lot, place):
+    """The lot with a place more, which was not in it."""
+    return tuple(sorted(lot + (place,)))
+
+
+def take_out(lot, place):
+    """The lot without a place that was in it."""
+    at = lot.index(place)
+    return lot[:at] + lot[at + 1:]
+
+
 def sublots(lot):
     """All lots that are contained in a lot of at most 7 places, ascending."""
     check_places(lot)

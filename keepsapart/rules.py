@@ -1,8 +1,8 @@
 """The five rules, the uses of them, and the written form of a use."""
 
 from keepsapart.errors import BadRule, BadText, BadUse
-from keepsapart.places import check_places, lot_minus, lot_union
-from keepsapart.sayings import all_sayings, check_saying, fewer, is_saying, more, outside_of, turned
+from keepsapart.places import check_places, put_in, selections, take_out
+from keepsapart.sayings import all_sayings, check_saying, is_saying, places_outside
 from keepsapart.saytext import check_one_line, saying_in, saying_text
 
 DIGITS = ("1", "2", "3", "4", "5")
@@ -47,59 +47,107 @@ def all_uses(places, *, rules=(1, 2, 3, 4, 5)):
     check_places(places, most=5)
     check_rules(rules, 5)
     sayings = all_sayings(places)
-    return sorted([use for rule in rules for saying in sayings for use in uses_on(places, saying, rule)])
+    # The rules, the sayings and the uses on each of them ascend, so nothing has to be sorted.
+    return [use for rule in rules for saying in sayings for use in uses_on(places, saying, rule)]
 
 
 def uses_from(places, saying, *, rules=(1, 2, 3, 4, 5)):
     """The uses by these rules that have the saying among their premises, ascending."""
-    check_places(places, most=5)
-    check_saying(saying, places=places)
-    return [use for use in all_uses(places, rules=rules) if saying in use[1]]
+    check_near(places, saying, rules)
+    found = [use for rule in rules for use in uses_on(places, saying, rule)]
+    if 4 in rules:
+        found = found + crossed_by(saying)
+    return sorted(found)
 
 
 def uses_to(places, saying, *, rules=(1, 2, 3, 4, 5)):
     """The uses by these rules that have the saying among their conclusions, ascending."""
+    check_near(places, saying, rules)
+    return sorted([use for rule in rules for use in uses_ending(places, saying, rule)])
+
+
+def check_near(places, saying, rules):
+    """Refuse what is not a world of at most 5 places, a saying over it and a tuple of rules."""
     check_places(places, most=5)
     check_saying(saying, places=places)
-    return [use for use in all_uses(places, rules=rules) if saying in use[2]]
+    check_rules(rules, 5)
 
 
 def uses_on(places, saying, rule):
-    """The uses over the world by this rule whose first premise is the saying."""
-    _, between, right = saying
+    """The uses over the world by this rule whose first premise is the saying, ascending."""
+    left, between, right = saying
     if rule == 1:
         return [turn_use(saying)]
     if rule == 2:
-        return [fewer_use(saying, place) for place in right if len(right) > 1]
+        # The greater the place that is taken out, the less is what is left.
+        return [fewer_use(saying, place) for place in reversed(right) if len(right) > 1]
     if rule == 4:
-        return [cross_use(saying, place) for place in between]
-    outside = outside_of(places, saying)
+        return [cross_use(saying, place) for place in reversed(between)]
+    outside = places_outside(places, saying)
     if rule == 3:
         return [more_use(saying, place) for place in outside]
     return [either_use(saying, place) for place in outside]
 
 
+def crossed_by(saying):
+    """The uses by rule 4 whose second premise is the saying."""
+    left, between, right = saying
+    if len(right) > 1:
+        return []
+    place = right[0]
+    found = []
+    for lot in selections(between)[1:]:
+        rest = tuple([other for other in between if other not in lot])
+        found.append(cross_use((left, put_in(rest, place), lot), place))
+    return found
+
+
+def uses_ending(places, saying, rule):
+    """The uses over the world by this rule that have the saying among their conclusions."""
+    left, between, right = saying
+    if rule == 1:
+        return [turn_use((right, between, left))]
+    if rule == 3:
+        return [more_use((left, take_out(between, place), right), place) for place in between]
+    if rule == 4:
+        lots = [(put_in(between, place), take_out(right, place), place) for place in right if len(right) > 1]
+        return [cross_use((left, middle, far), place) for middle, far, place in lots]
+    outside = places_outside(places, saying)
+    if rule == 2:
+        return [fewer_use((left, between, put_in(right, place)), place) for place in outside]
+    found = []
+    for lot in selections(outside)[1:]:
+        if len(right) == 1:
+            found.append(either_use((left, between, lot), right[0]))
+        if len(left) == 1:
+            found.append(either_use((lot, between, right), left[0]))
+    return found
+
+
 def turn_use(saying):
     """The use by rule 1 that turns the saying."""
-    return (1, (saying,), (turned(saying),))
+    left, between, right = saying
+    return (1, (saying,), ((right, between, left),))
 
 
 def fewer_use(saying, place):
     """The use by rule 2 that takes the place out of the right lot."""
-    return (2, (saying,), (fewer(saying, place),))
+    left, between, right = saying
+    return (2, (saying,), ((left, between, take_out(right, place)),))
 
 
 def more_use(saying, place):
     """The use by rule 3 that puts the place into the between lot."""
-    return (3, (saying,), (more(saying, place),))
+    left, between, right = saying
+    return (3, (saying,), ((left, put_in(between, place), right),))
 
 
 def cross_use(saying, place):
     """The use by rule 4 that moves the place from the between lot of its first premise to the right lot."""
     left, between, right = saying
-    rest = lot_minus(between, (place,))
-    other = (left, lot_union(rest, right), (place,))
-    return (4, (saying, other), ((left, rest, lot_union(right, (place,))),))
+    rest = take_out(between, place)
+    other = (left, tuple(sorted(rest + right)), (place,))
+    return (4, (saying, other), ((left, rest, put_in(right, place)),))
 
 
 def either_use(saying, place):

@@ -104,7 +104,14 @@ def outside_of(places, saying):
     """The lot of the places of the world that are outside the saying."""
     check_places(places)
     check_saying(saying, places=places)
-    return lot_minus(places, places_of(saying))
+    return places_outside(places, saying)
+
+
+def places_outside(places, saying):
+    """The lot of the places of the world that are in none of the three lots, which are not checked."""
+    left, between, right = saying
+    inside = left + between + right
+    return tuple([place for place in places if place not in inside])
 
 
 def is_full(places, saying):

@@ -1,5 +1,6 @@
 """What the tests share."""
 
+import time
 import unittest
 from functools import lru_cache
 from itertools import combinations, permutations, product
@@ -237,6 +238,16 @@ def all_ties(places):
     """The ties of all webs over a world."""
     pairs = [(a, b) for a in places for b in places if a < b]
     return [tuple(chosen) for many in range(len(pairs) + 1) for chosen in combinations(pairs, many)]
+
+
+def best_time(call):
+    """The seconds that a call takes, the least of seven times, so that a busy machine does not count."""
+    found = []
+    for _ in range(7):
+        start = time.perf_counter()
+        call()
+        found.append(time.perf_counter() - start)
+    return min(found)
 
 
 class Case(unittest.TestCase):

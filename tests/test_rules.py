@@ -5,8 +5,9 @@ from itertools import product
 
 from keepsapart.errors import BadRule, BadSaying, BadText, BadUse, Unknown
 from keepsapart.rules import all_uses, check_use, is_use, read_use, use_text, uses_from, uses_to
+from keepsapart.sayings import all_sayings
 from tests.helper import (
-    FIVE, FORTY, NO_LOTS, NO_SAYING_LINES, NO_SAYINGS, SEVEN, UNKNOWN, Case, triples, uses_over, written,
+    FIVE, FORTY, NO_LOTS, NO_SAYING_LINES, NO_SAYINGS, SEVEN, UNKNOWN, Case, best_time, triples, uses_over, written,
 )
 
 THREE = FIVE[:3]
@@ -159,10 +160,35 @@ class AllUsesTest(Case):
         self.same_kind(uses_to(rules=(5,), saying=SAYING, places=THREE), [])
 
     def test_uses_over_five_places(self):
+        for places in (FIVE, SEVEN[:5]):
+            leaving = {saying: [] for saying in triples(places)}
+            coming = {saying: [] for saying in triples(places)}
+            for use in uses_over(places):
+                for saying in set(use[1]):
+                    leaving[saying].append(use)
+                for saying in set(use[2]):
+                    coming[saying].append(use)
+            for saying in triples(places):
+                self.same_kind(uses_from(places, saying), leaving[saying])
+                self.same_kind(uses_to(places, saying), coming[saying])
+
+    def test_each_rule_alone_over_five_places(self):
         wanted = uses_over(FIVE)
-        for saying in triples(FIVE)[::57]:
-            self.same_kind(uses_from(FIVE, saying), [use for use in wanted if saying in use[1]])
-            self.same_kind(uses_to(FIVE, saying), [use for use in wanted if saying in use[2]])
+        for rule in range(1, 6):
+            uses = [use for use in wanted if use[0] == rule]
+            self.same_kind(all_uses(FIVE, rules=(rule,)), uses)
+            for saying in triples(FIVE)[::57]:
+                self.same_kind(uses_from(FIVE, saying, rules=(rule,)), [use for use in uses if saying in use[1]])
+                self.same_kind(uses_to(FIVE, saying, rules=(rule,)), [use for use in uses if saying in use[2]])
+
+    def test_calls_over_five_places_end_soon(self):
+        sayings = triples(FIVE)[::12] + [(("a",), ("c",), ("b",)), (("a",), ("b", "c", "d"), ("e",))]
+        self.assertEqual(len(sayings), 50)
+        # 50 calls took 0.0015 seconds where they were measured; ten times that is allowed.
+        for function in (uses_from, uses_to):
+            self.assertLess(best_time(lambda: [function(FIVE, saying) for saying in sayings]), 0.015)
+        # All uses took eight times as long as all sayings.
+        self.assertLess(best_time(lambda: all_uses(FIVE)), 25 * best_time(lambda: all_sayings(FIVE)))
 
     def test_checks(self):
         bad = (("A",), (), ())
