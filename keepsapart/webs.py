@@ -3,7 +3,7 @@
 from keepsapart.errors import BadLot, Repeated
 from keepsapart.places import (
     check_lot, check_new_place, check_place, check_places, check_same_places, check_two,
-    lot_minus, lot_union, make_pair, pairs_of, selections,
+    lot_common, lot_minus, lot_union, make_pair, pairs_of, selections,
 )
 
 
@@ -122,6 +122,12 @@ def web_within(small, big):
     """True if each tie of the first web is a tie of the second one."""
     check_same_places(small.places, big.places)
     return all([tie in big.ties for tie in small.ties])
+
+
+def pairs_differing(first, second):
+    """The pairs of places of both webs that are tied in exactly one of them, ascending."""
+    pairs = pairs_of(lot_common(first.places, second.places))
+    return [pair for pair in pairs if (pair in first.ties) != (pair in second.ties)]
 
 
 def induced(web, lot):

@@ -6,7 +6,7 @@ from functools import lru_cache
 from itertools import combinations, permutations, product
 
 from keepsapart.derive import derive
-from keepsapart.errors import BadLot, BadPlace, BadRule, BadSaying, KeepError, TooMany, Unknown
+from keepsapart.errors import BadLot, BadPlace, BadRule, BadSaying, KeepError, Repeated, TooMany, Unknown
 from keepsapart.webs import Web
 
 # Twelve places, more than any world may have, in ascending order.
@@ -120,6 +120,33 @@ def ways_in(web):
         way for many in range(1, len(web.places) + 1) for way in permutations(web.places, many)
         if all(step in ties for step in zip(way, way[1:]))
     )
+
+
+def lots_of(places):
+    """All lots of places of a world, the empty one included, ascending."""
+    return sorted(chosen for many in range(len(places) + 1) for chosen in combinations(places, many))
+
+
+def sides_of(places):
+    """All pairs of lots of a world that are not empty and share no place."""
+    return [(x, y) for x in lots_of(places) for y in lots_of(places) if x and y and not set(x) & set(y)]
+
+
+def webs_up_to(most):
+    """All webs over the first places of a world of five, for each number of places up to this."""
+    return [Web(FIVE[:many], ties) for many in range(most + 1) for ties in all_ties(FIVE[:many])]
+
+
+def webs_of_many(places, step):
+    """Some webs over a world of more places, with few and with many ties."""
+    pairs = list(combinations(places, 2))
+    numbers = range(0, 2 ** len(pairs), 2 ** len(pairs) // step + 1)
+    return [Web(places, [pair for k, pair in enumerate(pairs) if number >> k & 1]) for number in numbers]
+
+
+def lies_beside(way, left, right):
+    """True if the first place of a way alone is on the left, and its last one alone on the right."""
+    return [p for p in way if p in left] == [way[0]] and [p for p in way if p in right] == [way[-1]]
 
 
 def load(places, told):
@@ -290,6 +317,41 @@ class Case(unittest.TestCase):
             self.refused(error, call, lots)
         for lots in NO_SAYINGS:
             self.refused(BadSaying(lots), call, lots)
+
+    def checks_place(self, call):
+        """The call checks its argument as a place over a, b, c and d."""
+        for text in NO_PLACES:
+            self.refused(BadPlace(text), call, text)
+        for place in ("x", "aa", "zzzzzz", "abcd"):
+            self.refused(Unknown(place), call, place)
+
+    def checks_new_place(self, call):
+        """The call checks its argument as a place that is not among a, b, c and d."""
+        for text in NO_PLACES:
+            self.refused(BadPlace(text), call, text)
+        for place in FIVE[:4]:
+            self.refused(Repeated(place), call, place)
+
+    def checks_lot(self, call):
+        """The call checks its argument as a lot over a, b, c and d, or these and e."""
+        for text in NO_PLACES:
+            self.refused(BadPlace(text), call, (text,))
+            self.refused(BadPlace(text), call, ("x", "b", "a", text, "A"))
+        for lot in (("b", "a"), ("a", "a"), ("y", "x"), ("a", "b", "b"), ("a", "c", "b"), TWELVE[::-1]):
+            self.refused(BadLot(lot), call, lot)
+        for lot, place in ((("x",), "x"), (("a", "x", "y"), "x"), (("aa", "b"), "aa"), (TWELVE, "aa"), (FORTY, "aa")):
+            self.refused(Unknown(place), call, lot)
+
+    def checks_sides(self, call):
+        """The call checks its two arguments as the sides of a saying over a, b, c and d."""
+        self.checks_lot(lambda lot: call(lot, ("A",)))
+        self.checks_lot(lambda lot: call((), lot))
+        self.checks_lot(lambda lot: call(("a",), lot))
+        for left, right in (
+            ((), ()), ((), ("a",)), (("a",), ()), (("a",), ("a",)), (("a", "b"), ("b", "c")), (FIVE[:4], FIVE[:4]),
+            (("a", "b", "c"), ("c",)), ((), FIVE[:4]),
+        ):
+            self.refused(BadSaying((left, (), right)), call, left, right)
 
     def checks_list(self, call, most=10):
         """The call checks its argument as a list of sayings with this bound, over such a world."""

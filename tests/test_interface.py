@@ -152,6 +152,39 @@ FUNCTIONS = {
         "answer": "(places, told, goal)",
         "is_answer": "(places, told, goal, paper)",
     },
+    "walls": {
+        "is_least_wall": "(web, saying)",
+        "least_walls": "(web, left, right)",
+        "wall_ways": "(web, saying)",
+        "is_wall_paper": "(web, saying, ways)",
+        "shrunk_wall": "(web, saying)",
+    },
+    "parting": {
+        "parting_of": "(web, left, right)",
+        "is_parting": "(web, left, right, wall, ways)",
+        "cut_places": "(web)",
+        "cut_pair": "(web, place)",
+        "close": "(web, a, b)",
+        "blocks_of": "(web)",
+    },
+    "leaveout": {
+        "inner_way": "(web, a, b, lot)",
+        "leave_out": "(web, lot)",
+        "hold_always": "(web, lot)",
+        "cone": "(web, place)",
+        "book_leave_out": "(book, lot)",
+        "book_hold": "(book, lot)",
+        "book_cone": "(book, place)",
+        "together": "(first, second)",
+        "seen_from": "(first, second)",
+        "part_web": "(web, saying)",
+    },
+    "askweb": {
+        "find_web": "(asker)",
+        "undecided": "(places, asked)",
+        "agreeing_webs": "(places, log)",
+        "tell_apart": "(first, second)",
+    },
 }
 CLASSES = {
     "webs": {
@@ -185,10 +218,17 @@ CLASSES = {
             "__sub__": "(self, other)",
         },
     },
+    "askweb": {
+        "Asker": {
+            "__init__": "(self, web)",
+            "__call__": "(self, saying)",
+        },
+    },
 }
 PROPERTIES = {
     "webs": {"Web": ("places", "ties")},
     "books": {"Book": ("places", "sayings", "many")},
+    "askweb": {"Asker": ("places", "asked", "log")},
 }
 
 
