@@ -4,7 +4,7 @@ from keepsapart.alike import check_goal, counterweb, follows, is_counterweb
 from keepsapart.rules import either_use
 from keepsapart.sayings import check_load, is_full, outside_of
 from keepsapart.steps import closing_steps, needed_steps, uses_by_premise
-from keepsapart.trees import is_tree
+from keepsapart.trees import is_tree, uses_in
 from keepsapart.webof import grown_in
 
 
@@ -45,11 +45,7 @@ def next_case(places, growing):
 
 def premises_in(tree):
     """The premises of all uses in the tree."""
-    premises = [saying for use in tree[1] for saying in use[1]]
-    if tree[0] == "leaf":
-        return premises
-    _, _, use, left, right = tree
-    return premises + list(use[1]) + premises_in(left) + premises_in(right)
+    return [saying for use in uses_in(tree) for saying in use[1]]
 
 
 def answer(places, told, goal):

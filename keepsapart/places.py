@@ -115,10 +115,10 @@ def put_in(lot, place):
     return tuple(sorted(lot + (place,)))
 
 
-def take_out(lot, place):
-    """The lot without a place that was in it."""
-    at = lot.index(place)
-    return lot[:at] + lot[at + 1:]
+def take_out(items, item):
+    """The tuple, a lot or another one, without the first item that is equal to this one."""
+    at = items.index(item)
+    return items[:at] + items[at + 1:]
 
 
 def sublots(lot):

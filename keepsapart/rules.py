@@ -171,28 +171,28 @@ def sayings_text(sayings):
 def read_use(text):
     """The shaped use that is written so."""
     lines = text.split("\n")
-    use = use_in(lines[0])
+    use = use_in(lines[0], None)
     if use is None:
         raise BadText(1)
     check_one_line(lines)
     return use
 
 
-def use_in(text):
-    """The shaped use that is written so in one line, or None if there is none."""
+def use_in(text, places):
+    """The shaped use, over the world if there is one, that is written so in one line, or None if there is none."""
     parts = text.split(" : ")
     if len(parts) != 3 or parts[0] not in DIGITS:
         return None
-    premises = sayings_in(parts[1])
-    conclusions = sayings_in(parts[2])
+    premises = sayings_in(parts[1], places)
+    conclusions = sayings_in(parts[2], places)
     if premises is None or conclusions is None:
         return None
     return (int(parts[0]), premises, conclusions)
 
 
-def sayings_in(text):
-    """The one or two sayings that are written so, or None if they are not."""
-    sayings = tuple([saying_in(part) for part in text.split(" ; ")])
+def sayings_in(text, places):
+    """The one or two sayings, over the world if there is one, that are written so, or None if they are not."""
+    sayings = tuple([saying_in(part, places) for part in text.split(" ; ")])
     if len(sayings) > 2 or any([saying is None for saying in sayings]):
         return None
     return sayings

@@ -17,7 +17,7 @@ def saying_text(saying):
 def read_saying(text):
     """The saying that is written so."""
     lines = text.split("\n")
-    saying = saying_in(lines[0])
+    saying = saying_in(lines[0], None)
     if saying is None:
         raise BadText(1)
     check_one_line(lines)
@@ -37,7 +37,7 @@ def read_told(text):
     places = world_in("told", lines[0], 7)
     told = []
     for number, line in enumerate(lines[1:], start=2):
-        saying = saying_in_line(places, line)
+        saying = saying_in_line("say", places, line)
         if saying is None or len(told) == 10:
             raise BadText(number)
         told.append(saying)
@@ -55,7 +55,7 @@ def read_book(text):
     places = world_in("book", lines[0], 5)
     sayings = []
     for number, line in enumerate(lines[1:], start=2):
-        saying = saying_in_line(places, line)
+        saying = saying_in_line("say", places, line)
         if saying is None or (sayings and saying <= sayings[-1]):
             raise BadText(number)
         sayings.append(saying)
@@ -76,17 +76,14 @@ def world_in(word, line, most):
     return places
 
 
-def saying_in_line(places, line):
-    """The saying over the world behind the word say, or None if the line is not written so."""
-    word, _, rest = line.partition(" ")
-    saying = saying_in(rest)
-    if word != "say" or saying is None or not is_over(places, saying):
-        return None
-    return saying
+def saying_in_line(word, places, line):
+    """The saying over the world behind the word, or None if the line is not written so."""
+    before, _, rest = line.partition(" ")
+    return saying_in(rest, places) if before == word else None
 
 
-def saying_in(text):
-    """The saying that is written so in one line, or None if there is none."""
+def saying_in(text, places):
+    """The saying, over the world if there is one, that is written so in one line, or None if there is none."""
     lots = [[]]
     for word in text.split(" "):
         if word == "|":
@@ -94,7 +91,9 @@ def saying_in(text):
         else:
             lots[-1].append(word)
     saying = tuple([tuple(lot) for lot in lots])
-    return saying if len(saying) == 3 and has_form(saying) else None
+    if len(saying) != 3 or not has_form(saying):
+        return None
+    return saying if places is None or is_over(places, saying) else None
 
 
 def check_one_line(lines):

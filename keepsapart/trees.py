@@ -47,6 +47,14 @@ def tree_size(tree):
     )
 
 
+def uses_in(tree):
+    """All uses in the tree, in the order in which they are written."""
+    if tree[0] == "leaf":
+        return list(tree[1])
+    _, steps, use, left, right = tree
+    return list(steps) + [use] + uses_in(left) + uses_in(right)
+
+
 def tree_branches(told, tree):
     """For each leaf, from left to right, the sayings known at its end, ascending."""
     check_told(told)
@@ -93,12 +101,16 @@ def tree_lines(tree):
 
 def read_tree(text):
     """The shaped tree that is written so."""
-    lines = text.split("\n")
+    return tree_in(text.split("\n"), None)
+
+
+def tree_in(lines, places):
+    """The shaped tree that is written in the lines, all of them, over the world if there is one."""
     nodes = []
     steps = []
     missing = 1
     for number, line in enumerate(lines, start=1):
-        found = node_in(line)
+        found = node_in(line, places)
         if missing == 0 or found is None:
             raise BadText(number)
         word, use = found
@@ -114,12 +126,12 @@ def read_tree(text):
     return tree_of(nodes)
 
 
-def node_in(line):
-    """The word of a line of a written tree and the use behind it, or None if no tree has this line."""
+def node_in(line, places):
+    """The word of a line of a written tree and the use behind it, or None if no tree over the world has this line."""
     if line == "leaf":
         return ("leaf", None)
     word, _, rest = line.partition(" ")
-    use = use_in(rest)
+    use = use_in(rest, places)
     if use is None or len(use[2]) != CONCLUSIONS.get(word, 0):
         return None
     return (word, use)

@@ -185,6 +185,30 @@ FUNCTIONS = {
         "agreeing_webs": "(places, log)",
         "tell_apart": "(first, second)",
     },
+    "tables": {
+        "holds": "(table, saying)",
+        "uneven_cell": "(table, saying)",
+        "crossed_evenly": "(table, a, b)",
+        "table_web": "(table)",
+        "table_book": "(table)",
+        "table_of": "(web)",
+        "web_failing": "(table, web)",
+    },
+    "papers": {
+        "is_shown": "(paper)",
+        "paper_of_saying": "(web, saying)",
+        "paper_of_book": "(book)",
+        "paper_of_goal": "(places, told, goal)",
+        "paper_of_lists": "(places, first, second)",
+        "paper_of_wall": "(web, saying)",
+    },
+    "papertext": {
+        "paper_text": "(paper)",
+        "read_paper": "(text)",
+    },
+    "script": {
+        "run_script": "(lines)",
+    },
 }
 CLASSES = {
     "webs": {
@@ -224,11 +248,53 @@ CLASSES = {
             "__call__": "(self, saying)",
         },
     },
+    "tables": {
+        "Table": {
+            "__init__": "(self, places, counts)",
+            "at": "(self, cell)",
+            "margin": "(self, lot)",
+            "fixed": "(self, place, value)",
+            "__eq__": "(self, other)",
+            "__ne__": "(self, other)",
+            "__mul__": "(self, other)",
+        },
+    },
+    "desk": {
+        "Desk": {
+            "__init__": "(self, places=())",
+            "__iter__": "(self)",
+            "__contains__": "(self, saying)",
+            "add_place": "(self, place)",
+            "drop_place": "(self, place)",
+            "tell": "(self, saying)",
+            "untell": "(self, saying)",
+            "shorten": "(self)",
+            "back": "(self)",
+            "forth": "(self)",
+            "twin": "(self)",
+            "greatest": "(self)",
+            "goal_follows": "(self, goal)",
+            "goal_counterweb": "(self, goal)",
+            "goal_answer": "(self, goal)",
+            "consequence_book": "(self)",
+            "what_if": "(self, goal, *, extra=())",
+        },
+    },
+    "papers": {
+        "Paper": {
+            "__init__": "(self, kind, *parts)",
+            "__eq__": "(self, other)",
+            "__ne__": "(self, other)",
+        },
+    },
 }
 PROPERTIES = {
     "webs": {"Web": ("places", "ties")},
     "books": {"Book": ("places", "sayings", "many")},
     "askweb": {"Asker": ("places", "asked", "log")},
+    "tables": {"Table": ("places", "counts", "total")},
+    "desk": {"Desk": ("places", "told", "load", "changes", "taken_back")},
+    "papers": {"Paper": ("kind", "parts")},
 }
 
 
