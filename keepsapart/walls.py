@@ -3,7 +3,7 @@
 from keepsapart.apart import keeps, verdict
 from keepsapart.greatwebs import check_kept
 from keepsapart.places import check_lot, lot_minus, lot_union, selections, take_out
-from keepsapart.sayings import check_saying, check_sides
+from keepsapart.sayings import check_sides
 from keepsapart.ways import leads, reached
 
 
@@ -45,9 +45,10 @@ def wall_ways(web, saying):
 
 def is_wall_paper(web, saying, ways):
     """True if the raw ways show that the web keeps the saying and that its between lot is a least wall."""
-    check_saying(saying, places=web.places)
+    if not keeps(web, saying):
+        return False
     left, between, right = saying
-    if not keeps(web, saying) or len(ways) != len(between):
+    if len(ways) != len(between):
         return False
     return all([leads(web, way, left, right, take_out(between, place)) for way, place in zip(ways, between)])
 

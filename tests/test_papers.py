@@ -81,6 +81,8 @@ class MakeTest(Case):
         for first, second in product(range(len(papers)), repeat=2):
             self.assertIs(papers[first] == papers[second], first == second)
             self.assertIs(papers[first] != papers[second], first != second)
+        # A split may look like ways.
+        self.assertIs(papers[0] == Paper("wall", *KINDS["apart"]), False)
         again = [Paper(kind, *parts) for kind, parts in KINDS.items()]
         self.assertEqual(again, papers[:8])
         for other in ("apart", None, 3, LINE, BOOK, ("apart", *KINDS["apart"]), [], THREE):

@@ -278,6 +278,8 @@ class ReadTest(Case):
             ("paper broken|book a b|use 1 : a / / b : b / / a|say a / / b", 4), ("paper broken|book a b|web a b", 3),
             ("paper counter|told a b|goal a / / b|say a / / b", 4), ("paper counter|told a b|web a b", 3),
             ("paper counter|told a b|goal a / / b|goal a / / b", 4), ("paper counter|told a b|goal a / / b|leaf", 4),
+            ("paper unlike|told a b|told a b|goal first", 4), ("paper unlike|told a b|told a b|sides second", 4),
+            ("paper broken|book a b|step 1 : a / / b : b / / a", 3), ("paper way|web a b|say a / / b|side a b", 4),
             ("paper unlike|told a b|side first|web a b", 3), ("paper unlike|told a b|told a b|told a b", 4),
             ("paper unlike|told a b|told a b|web a b|side first", 4), ("paper unlike|told a b|told a b|side first|side second", 5),
             ("paper tree|told a b|leaf", 3), ("paper tree|goal a / / b|leaf", 2), ("paper tree|told a b|told a b", 3),
