@@ -180,14 +180,14 @@ class AgreeingTest(Case):
         self.same_kind(agreeing_webs(FOUR, [((("a",), (), ("b",)), True), ((("b",), ("c",), ("a",)), False)]), [])
         self.assertEqual(agreeing_webs((), []), [EMPTY])
         self.assertEqual(agreeing_webs(FOUR, ()), all_webs(FOUR))
-        self.assertEqual(len(agreeing_webs(FOUR, [(CROSSED, False)] * 30)), len(agreeing_webs(FOUR, [(CROSSED, False)])))
+        self.assertEqual(agreeing_webs(FOUR, [(CROSSED, False)] * 30), agreeing_webs(FOUR, [(CROSSED, False)]))
         self.fresh_list(agreeing_webs, THREE, [(KEPT, True)])
 
     def test_checks(self):
         self.checks_world(lambda places: agreeing_webs(places, [(BAD, True)] * 31), 4)
         for answer in (True, False):
             self.checks_list(lambda sayings: agreeing_webs(FOUR, [(saying, answer) for saying in sayings]), most=30)
-            self.checks_list(lambda sayings: agreeing_webs(FOUR, tuple((saying, answer) for saying in sayings)), most=30)
+            self.checks_list(lambda sayings: agreeing_webs(FOUR, tuple((lots, answer) for lots in sayings)), most=30)
         self.refused(TooMany(30, 31), agreeing_webs, FOUR, [(KEPT, True)] * 31)
 
 

@@ -120,7 +120,8 @@ class DeedsTest(Case):
     def test_rows_of_deeds_beside_a_plain_list_of_states(self):
         draw = random.Random(75)
         sayings = triples(FOUR) + [AB, BA, PART, PART[::-1]] * 6
-        words = ["tell"] * 7 + ["untell"] * 2 + ["add_place"] * 3 + ["drop_place", "shorten"] + ["back"] * 3 + ["forth"] * 3
+        words = ["tell"] * 7 + ["untell"] * 2 + ["add_place"] * 3 + ["drop_place", "shorten"]
+        words += ["back", "forth"] * 3
         for row in range(60):
             places = FIVE[:row % 6]
             desk, model = Desk(places), Model(places)
@@ -264,7 +265,8 @@ class DeedsTest(Case):
             self.refused(error, call)
             self.assertEqual(state(desk), before)
         for call in (
-            desk.greatest, desk.twin, desk.consequence_book, lambda: desk.goal_follows(AB), lambda: desk.goal_answer(BA),
+            desk.greatest, desk.twin, desk.consequence_book, lambda: desk.goal_follows(AB),
+            lambda: desk.goal_answer(BA),
             lambda: desk.goal_counterweb(PART), lambda: desk.what_if(PART, extra=[PART]), lambda: AB in desk,
             lambda: list(desk), lambda: desk.load,
         ):

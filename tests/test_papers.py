@@ -217,7 +217,8 @@ class ShownTest(Case):
                          and not set(way) & set(between) - {place}] for place in between]
                 ways = [row[0] if row else (left[0], right[0]) for row in rows]
                 self.assertIs(is_shown(Paper("wall", web, saying, ways)), kept and all(rows))
-                for other in (ways[:-1], ways + ways[:1], ways[::-1], [way[::-1] for way in ways], [("a", "a")] * len(ways)):
+                turned = [way[::-1] for way in ways]
+                for other in (ways[:-1], ways + ways[:1], ways[::-1], turned, [("a", "a")] * len(ways)):
                     wanted = kept and len(other) == len(rows) and all(way in row for way, row in zip(other, rows))
                     self.assertIs(is_shown(Paper("wall", web, saying, other)), wanted)
 
@@ -256,7 +257,8 @@ class ShownTest(Case):
     def test_trees_that_are_none(self):
         for told, tree, wanted in (
             ([AB], ("leaf", (TURN,)), True), ([AB], LEAF, False), ([], ("leaf", (TURN,)), False), ([BA], LEAF, True),
-            ([AB], CASE, True), ([BA], CASE, False), ([AB], ("leaf", ((2, (AB,), (BA,)),)), False), ([AB], ("leaf", (TURN, TURN)), True),
+            ([AB], CASE, True), ([BA], CASE, False), ([AB], ("leaf", ((2, (AB,), (BA,)),)), False),
+            ([AB], ("leaf", (TURN, TURN)), True),
             ([AB], ("case", (TURN,), EITHER, LEAF, LEAF), True), ([BA], ("case", (), EITHER, LEAF, LEAF), False),
             ([AB], ("case", (), (4,) + EITHER[1:], ("leaf", (TURN,)), ("leaf", (TURN,))), False),
             ([AB], ("case", (), EITHER, ("leaf", (TURN,)), LEAF), False),

@@ -161,7 +161,9 @@ class JudgeTest(Case):
             self.assertIs(is_parting(LINE, ("a",), ("d",), wall, good), False)
             self.assertIs(is_parting(LINE, ("a",), ("d",), wall, good * len(wall)), False)
             self.assertIs(is_parting(LINE, ("a",), ("d",), wall, good * 700), False)
-        for way in [(), ("a",), ("d",), ("a", "d"), ("a", "b", "b", "c", "d"), ("a", "x", "d"), FORTY, ("d", "c", "b", "a")]:
+        for way in (
+            (), ("a",), ("d",), ("a", "d"), ("a", "b", "b", "c", "d"), ("a", "x", "d"), FORTY, ("d", "c", "b", "a"),
+        ):
             self.assertIs(is_parting(LINE, ("a",), ("d",), ("b",), [way]), False)
         for text in NO_PLACES:
             self.assertIs(is_parting(LINE, ("a",), ("d",), ("b",), [("a", text, "d")]), False)

@@ -64,8 +64,10 @@ class ScriptTest(Case):
         self.after_setup([
             ("load", "load 1"), ("show", "told a b c ; say a | | b ; say b | c | a"),
             ("great", "great 2 : web a b c ; tie a c : web a b c ; tie b c"), ("ask a | c | b", "yes"),
-            ("ask a | | c", "no"), ("why a | | c", "no web a b c ; tie a c"), ("why b | | a", "yes"), ("shorten", "dropped 1"),
-            ("show", "told a b c ; say a | | b"), ("shorten", "dropped 0"), ("add d", "ok"), ("load", "load 2"), ("back", "ok"),
+            ("ask a | | c", "no"), ("why a | | c", "no web a b c ; tie a c"), ("why b | | a", "yes"),
+            ("shorten", "dropped 1"),
+            ("show", "told a b c ; say a | | b"), ("shorten", "dropped 0"), ("add d", "ok"), ("load", "load 2"),
+            ("back", "ok"),
             ("forth", "ok"), ("drop d", "ok"), ("untell a | | b", "ok"), ("show", "told a b c"), ("load", "load 0"),
             ("great", "great 1 : web a b c ; tie a b ; tie a c ; tie b c"),
             ("why a | | b", "no web a b c ; tie a b ; tie a c ; tie b c"),
@@ -108,9 +110,12 @@ class ScriptTest(Case):
 
     def test_lines_that_are_no_commands(self):
         for line in (
-            "", " ", "add", "drop", "tell", "untell", "ask", "why", "back ", "forth ", "shorten ", "load ", "show ", "great ",
-            " back", "back a", "forth 1", "shorten all", "load a", "show a", "great 1", "Back", "ADD a", "Add a", "adda",
-            "add-a", " add a", "tella | | b", "quit", "told a b", "say a | | b", "web a b", "show;", "great :", "a", "|",
+            "", " ", "add", "drop", "tell", "untell", "ask", "why", "back ", "forth ", "shorten ", "load ", "show ",
+            "great ",
+            " back", "back a", "forth 1", "shorten all", "load a", "show a", "great 1", "Back", "ADD a", "Add a",
+            "adda",
+            "add-a", " add a", "tella | | b", "quit", "told a b", "say a | | b", "web a b", "show;", "great :", "a",
+            "|",
             "addition a", "asks a | | b", "whya | | b", "x" * 200, "add\\", "undo", "; add a",
         ):
             self.after_setup([(line, "refused BadText"), ("show", "told a b c ; say a | | b ; say b | c | a")])
@@ -131,22 +136,23 @@ class ScriptTest(Case):
         )
         self.answers(
             lines[:9] + ["great", "tell a | | b", "great", "back", "shorten"],
-            ["ok"] * 9 + ["great 2 : web a b c ; tie a c : web a b c ; tie b c", "ok", "refused TooMany", "ok", "dropped 5"],
+            ["ok"] * 9 + ["great 2 : web a b c ; tie a c : web a b c ; tie b c"]
+            + ["ok", "refused TooMany", "ok", "dropped 5"],
         )
 
     def test_the_state_does_not_change_where_a_line_is_refused(self):
-        bad = ["add a", "drop a", "tell a | | x", "untell a | | c", "forth", "nothing", "ask a | | x", "why a", "add ", "tell "]
+        bad = ["add a", "drop a", "tell a | | x", "untell a | | c", "nothing", "ask a | | x", "why a", "add ", "tell "]
         self.after_setup([
             ("tell a | | c", "ok"), ("back", "ok"), ("tell a | | x", "refused Unknown"), ("nothing", "refused BadText"),
             ("add a", "refused Repeated"), ("shorten", "dropped 1"), ("forth", "refused NoChange"),
         ])
         for line in bad:
             found = run_script(SETUP + ["tell c | | b", "back", line, "show", "forth", "show"])
-            if line != "forth":
-                self.assertEqual(found[7].split(" ")[0], "refused")
-                self.assertEqual(found[8:], [
-                    "told a b c ; say a | | b ; say b | c | a", "ok", "told a b c ; say a | | b ; say b | c | a ; say c | | b",
-                ])
+            self.assertEqual(found[7].split(" ")[0], "refused")
+            self.assertEqual(found[8:], [
+                "told a b c ; say a | | b ; say b | c | a", "ok",
+                "told a b c ; say a | | b ; say b | c | a ; say c | | b",
+            ])
 
     def test_rows_of_lines_beside_a_desk(self):
         draw = random.Random(81)

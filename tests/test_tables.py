@@ -12,7 +12,8 @@ from keepsapart.tables import (
 )
 from keepsapart.webs import Web, all_tied, no_ties
 from tests.helper import (
-    FIVE, FORTY, SEVEN, TWELVE, Case, all_ties, joined, kept_by, lies_within, lots_of, triples, webs_of_many, webs_up_to,
+    FIVE, FORTY, SEVEN, TWELVE, Case, all_ties, joined, kept_by, lies_within, lots_of, triples, webs_of_many,
+    webs_up_to,
 )
 
 TWO = FIVE[:2]
@@ -135,7 +136,8 @@ class TableTest(Case):
         self.assertTrue(SMALL == Table(TWO, (1, 2, 3, 4)))
         self.assertFalse(SMALL != Table(TWO, (1, 2, 3, 4)))
         for other in (
-            Table(TWO, [1, 2, 4, 3]), Table(("a", "c"), [1, 2, 3, 4]), Table(THREE, [1] * 8), (1, 2, 3, 4), [1, 2, 3, 4],
+            Table(TWO, [1, 2, 4, 3]), Table(("a", "c"), [1, 2, 3, 4]), Table(THREE, [1] * 8), (1, 2, 3, 4),
+            [1, 2, 3, 4],
             None, 10, "table", TWO, Web(TWO), Book(TWO), True, {},
         ):
             self.assertIs(SMALL == other, False)
@@ -193,9 +195,8 @@ class ProductTest(Case):
                 wanted = []
                 for cell in cells(len(places)):
                     worth = dict(zip(places, cell))
-                    wanted.append(
-                        one.at(tuple(worth[place] for place in first)) * other.at(tuple(worth[place] for place in second))
-                    )
+                    factors = [tuple(worth[place] for place in lot) for lot in (first, second)]
+                    wanted.append(one.at(factors[0]) * other.at(factors[1]))
                 self.same_kind(found.counts, tuple(wanted))
                 self.assertEqual(other * one, found)
 

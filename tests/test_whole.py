@@ -12,7 +12,9 @@ from keepsapart.books import Book
 from keepsapart.brokenrule import broken_uses
 from keepsapart.desk import Desk
 from keepsapart.greatwebs import greatest_webs
-from keepsapart.papers import Paper, is_shown, paper_of_book, paper_of_goal, paper_of_lists, paper_of_saying, paper_of_wall
+from keepsapart.papers import (
+    Paper, is_shown, paper_of_book, paper_of_goal, paper_of_lists, paper_of_saying, paper_of_wall,
+)
 from keepsapart.papertext import paper_text, read_paper
 from keepsapart.tables import table_book, table_of, table_web
 from keepsapart.walls import least_walls, shrunk_wall
@@ -134,7 +136,8 @@ class MainResultTest(Case):
 
 # A value for each name of a parameter; where a function takes another kind under this name, the next table tells.
 VALUES = {
-    "text": "a", "names": ["b", "a"], "place": "b", "lot": ("a", "b"), "places": FOUR, "left": ("a",), "right": ("c", "d"),
+    "text": "a", "names": ["b", "a"], "place": "b", "lot": ("a", "b"), "places": FOUR, "left": ("a",),
+    "right": ("c", "d"),
     "between": ("b",), "web": LINE, "saying": FULL, "told": [FULL, FULL[::-1]], "goal": FULL, "first": LINE,
     "second": Web(("c", "d", "x"), [("c", "d")]), "small": LINE, "big": Web(FOUR, LINE.ties), "starts": ("a",),
     "missing": ("c",), "start": "a", "way": ("a", "b", "c"), "split": FULL, "book": book_of(LINE), "use": TURN,
@@ -147,17 +150,21 @@ VALUES = {
 OTHERS = {
     "with_place": {"place": "x"}, "cone": {"place": "x"}, "book_cone": {"place": "x"}, "add_place": {"place": "x"},
     "drop_place": {"place": "d"}, "untell": {"saying": AB},
-    "inner_way": {"lot": ("c", "d")}, "shortest_way": {"goal": "b"}, "distance": {"goal": "b"}, "all_ways": {"goal": "b"},
-    "is_way": {"goal": "b"}, "read_web": {"text": "web a"}, "read_saying": {"text": "a | | b"}, "read_told": {"text": "told a"},
+    "inner_way": {"lot": ("c", "d")}, "shortest_way": {"goal": "b"}, "distance": {"goal": "b"},
+    "all_ways": {"goal": "b"},
+    "is_way": {"goal": "b"}, "read_web": {"text": "web a"}, "read_saying": {"text": "a | | b"},
+    "read_told": {"text": "told a"},
     "read_book": {"text": "book a"}, "read_use": {"text": "1 : a | | b : b | | a"}, "read_tree": {"text": "leaf"},
     "read_paper": {"text": "paper web\nbook\nweb"}, "fewer": {"place": "c"}, "more": {"place": "x"},
     "lot_union": {"first": ("a",), "second": ("b",)}, "lot_common": {"first": ("a",), "second": ("b",)},
     "lot_minus": {"first": ("a",), "second": ("b",)}, "alike": {"first": [FULL], "second": [FULL[::-1]]},
-    "unlike": {"first": [FULL], "second": [AB]}, "is_unlike": {"first": [FULL], "second": [AB], "paper": ("first", LINE)},
+    "unlike": {"first": [FULL], "second": [AB]},
+    "is_unlike": {"first": [FULL], "second": [AB], "paper": ("first", LINE)},
     "paper_of_lists": {"first": [FULL], "second": [AB]}, "tell_apart": {"second": Web(FOUR)},
     "first_difference": {"first": book_of(LINE), "second": Book(FOUR)},
     "book_within": {"small": Book(FOUR), "big": book_of(LINE)}, "is_both_ways": {"paper": ("web", LINE)},
-    "is_answer": {"paper": ("web", LINE)}, "small_book": {"places": THREE}, "is_parting": {"left": ("a",), "right": ("c",)},
+    "is_answer": {"paper": ("web", LINE)}, "small_book": {"places": THREE},
+    "is_parting": {"left": ("a",), "right": ("c",)},
     "grow_steps": {"saying": AB, "place": "c"}, "make_saying": {"right": ["d", "c"]},
 }
 # How the objects are made whose methods are called; each call gets a new one.
